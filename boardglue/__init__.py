@@ -1,0 +1,1 @@
+"""Boardglue: boards cut along and across the grain, and glued anew."""
