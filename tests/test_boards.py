@@ -7,22 +7,7 @@ from math import gcd
 
 from boardglue.boards import board, is_heap, is_length
 from boardglue.errors import NoBoard
-from samples import ROOTS, Prickly, near_misses, no_wholes
-
-LONG = 10 ** 399 + 7
-
-
-def no_lengths():
-    """Things of many kinds that are no lengths, though many come near."""
-    near = [
-        (2, 0, 2), (2, 4, 6), (0, 0, 2), (0, 3, 3), (-2, 2, 2), (LONG, LONG, LONG), (1, 0, 0), (0, 0, 0),
-        (1, 0, -1), (-1, -1, -1), (0, 0, -1), (1, 2, -3), (True, 0, 1), (1, False, 1), (1, 0, True), (0, True, 1),
-        ("1", 0, 1), (1, "0", 1), (1, 0, "1"), (None, 0, 1), (1, None, 1), (1, 0, None), (1.0, 0, 1), (1, 0, 1.0),
-        (1, 0, [1]), ((1,), 0, 1), (Prickly(), 0, 1), (1, Prickly(), 1), (1, 0, Prickly()), [1, 0, 1], [],
-        (), (1,), (1, 1), (1, 0), (1, 0, 1, 1), (1, 0, 1, 0), ((1, 0, 1),), ((1, 0, 1), (1, 0, 1)), "101", b"101",
-        {1: 0, 0: 1, 2: 1}, 1, 0, -1,
-    ]
-    return near + [thing for thing in no_wholes() if thing.__class__ is not tuple]
+from samples import LONG, ROOTS, Prickly, near_misses, no_lengths, no_wholes
 
 
 def no_sides():

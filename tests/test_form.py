@@ -83,6 +83,36 @@ class Form(unittest.TestCase):
                 with self.subTest(name, line=node.lineno):
                     self.assertTrue(isinstance(node, TOP) or (place == 0 and is_docstring(node)))
 
+    def test_top_values_are_plain_and_bound_once(self):
+        for name, tree in self.trees.items():
+            bound = [node.name for node in tree.body if isinstance(node, (ast.FunctionDef, ast.ClassDef))]
+            bound += [one.name for node in tree.body if isinstance(node, ast.ImportFrom) for one in node.names]
+            for node in tree.body:
+                if isinstance(node, ast.Assign):
+                    with self.subTest(name, line=node.lineno):
+                        ast.literal_eval(node.value)
+                        bound.append(node.targets[0].id)
+            self.assertEqual(len(bound), len(set(bound)), name)
+
+    def test_no_local_is_called_like_a_class_or_an_import(self):
+        for name, tree in self.trees.items():
+            taken = {one.name for node in tree.body if isinstance(node, ast.ImportFrom) for one in node.names}
+            taken |= {node.name for node in tree.body if isinstance(node, ast.ClassDef)}
+            for node in ast.walk(tree):
+                stored = isinstance(node, ast.Name) and isinstance(node.ctx, ast.Store) and node.id
+                with self.subTest(name, line=getattr(node, "lineno", None)):
+                    self.assertNotIn(node.arg if isinstance(node, ast.arg) else stored, taken)
+
+    def test_no_name_is_a_method_and_a_value(self):
+        methods, kept = set(), set()
+        for tree in self.trees.values():
+            for node in ast.walk(tree):
+                if isinstance(node, ast.ClassDef):
+                    methods |= {one.name for one in node.body if isinstance(one, ast.FunctionDef)}
+                if isinstance(node, ast.Attribute) and isinstance(node.ctx, ast.Store):
+                    kept.add(node.attr)
+        self.assertEqual(methods & kept, set())
+
     def test_imports(self):
         def check(node):
             self.assertEqual(node.level, 0)

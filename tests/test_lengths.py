@@ -3,53 +3,15 @@
 import unittest
 from fractions import Fraction
 from itertools import product
-from math import gcd, isqrt
+from math import gcd
 
 from boardglue.errors import NoLength
 from boardglue.lengths import (
     added, by_parts, floor_of, fraction, is_root, is_whole, length, parted, parts, taken, timed, under,
 )
-from samples import ROOTS, near_misses, no_wholes
+from samples import LONG, ROOTS, as_length, near_misses, no_wholes, pair, sign, small_lengths, some_lengths
 
-LONG = 10 ** 399 + 7
 FEW_ROOTS = (2, 3, 5, 8, 12, 61, 98, 99)
-
-
-def small_lengths():
-    triples = product(range(-3, 4), range(-3, 4), range(1, 5))
-    return [one for one in triples if gcd(*one) == 1]
-
-
-def some_lengths():
-    """Of every sign, with and without a second part, some of them of four hundred figures."""
-    return [
-        (0, 0, 1), (1, 0, 1), (-1, 0, 1), (0, 1, 1), (0, -1, 1), (1, 1, 2), (1, -1, 2), (-3, 2, 7), (5, 3, 4),
-        (-5, -3, 6), (7, -5, 12), (2, 0, 3), (0, -4, 9), (LONG, -LONG + 2, 3), (1, LONG, LONG + 1), (-LONG, 3, 10),
-    ]
-
-
-def pair(one):
-    """A length as two fractions of Python's own."""
-    return (Fraction(one[0], one[2]), Fraction(one[1], one[2]))
-
-
-def as_length(f, g):
-    bottom = f.denominator * g.denominator // gcd(f.denominator, g.denominator)
-    return (int(f * bottom), int(g * bottom), bottom)
-
-
-def sign(d, one):
-    """-1, 0 or 1, told by enclosing root d between whole numbers at a fine enough scale."""
-    f, g = pair(one)
-    if g == 0:
-        return (f > 0) - (f < 0)
-    scale = 10 ** 10
-    while True:
-        low = Fraction(isqrt(d * scale * scale), scale)
-        ends = sorted([f + g * low, f + g * (low + Fraction(1, scale))])
-        if ends[0] > 0 or ends[1] < 0:
-            return 1 if ends[0] > 0 else -1
-        scale = scale * scale
 
 
 class Checks(unittest.TestCase):
