@@ -68,15 +68,21 @@ def parts(one):
 
 
 def by_parts(f, g):
-    return length(f[0] * g[1], g[0] * f[1], f[1] * g[1])
+    # Both are in lowest terms, so over their least common bottom nothing is left to divide out.
+    shared = common_divisor(f[1], g[1])
+    return (f[0] * (g[1] // shared), g[0] * (f[1] // shared), f[1] // shared * g[1])
 
 
 def added(one, other):
-    return length(
-        one[0] * other[2] + other[0] * one[2],
-        one[1] * other[2] + other[1] * one[2],
-        one[2] * other[2],
-    )
+    # Likewise only what their bottoms share can be left to divide out here: a
+    # length with a great bottom and one with a small bottom are soon added.
+    shared = common_divisor(one[2], other[2])
+    ahead = other[2] // shared
+    behind = one[2] // shared
+    a = one[0] * ahead + other[0] * behind
+    b = one[1] * ahead + other[1] * behind
+    left = common_divisor(common_divisor(shared, a), b)
+    return (a // left, b // left, behind * (other[2] // left))
 
 
 def taken(one, other):

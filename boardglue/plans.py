@@ -1,6 +1,6 @@
 """Plans, lists of deeds: walked over a heap, and turned about."""
 
-from boardglue.yard import Yard, count_put, names_taken
+from boardglue.yard import GLUINGS, Yard, count_put, names_taken
 
 
 def yard_behind(d, heap, plan, turning):
@@ -58,3 +58,36 @@ def back(d, heap, plan):
             unused = unused + 1
         behind = ahead
     return (deeds, places_of([renamed[name] for name in range(len(heap))]))
+
+
+def names_behind(many, plan):
+    # Which names are left hangs on the deeds alone, so no board is reckoned here.
+    lying = dict([(name, True) for name in range(many)])
+    unused = many
+    for deed in plan:
+        for name in names_taken(deed):
+            lying.pop(name)
+        for name in range(unused, unused + count_put(deed)):
+            lying[name] = True
+        unused = unused + count_put(deed)
+    return list(lying)
+
+
+def with_names(deed, names):
+    if deed[0] in GLUINGS:
+        return (deed[0], names[deed[1]], names[deed[2]])
+    return (deed[0], names[deed[1]]) + deed[2:]
+
+
+def followed(many, plan, more):
+    # A plan over many boards, and behind it one over the heap at its end: its
+    # names there are 0, 1 .. of a new yard, and are led to those of this one.
+    names = names_behind(many, plan)
+    unused = many + sum([count_put(deed) for deed in plan])
+    deeds = list(plan)
+    for deed in more:
+        deeds.append(with_names(deed, names))
+        for name in range(unused, unused + count_put(deed)):
+            names.append(name)
+        unused = unused + count_put(deed)
+    return deeds

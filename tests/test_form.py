@@ -121,6 +121,26 @@ class Form(unittest.TestCase):
 
         self.each(ast.ImportFrom, check)
 
+    def test_no_two_files_draw_from_one_another(self):
+        drawn = {
+            name[:-3]: {node.module.split(".")[1] for node in tree.body if isinstance(node, ast.ImportFrom)}
+            for name, tree in self.trees.items()
+        }
+        while drawn:
+            free = [name for name, others in drawn.items() if not others & set(drawn)]
+            self.assertTrue(free, sorted(drawn))
+            for name in free:
+                drawn.pop(name)
+
+    def test_names_are_drawn_from_the_file_that_defines_them(self):
+        def check(node):
+            tree = self.trees[node.module.split(".")[1] + ".py"]
+            own = {one.name for one in tree.body if isinstance(one, (ast.FunctionDef, ast.ClassDef))}
+            own |= {one.targets[0].id for one in tree.body if isinstance(one, ast.Assign)}
+            self.assertEqual({one.name for one in node.names} - own, set())
+
+        self.each(ast.ImportFrom, check)
+
     def test_statements_and_expressions(self):
         def check(node):
             self.assertIsInstance(node, STATEMENTS + EXPRESSIONS)
