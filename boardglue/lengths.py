@@ -6,6 +6,8 @@ NOUGHT = (0, 0, 1)
 LEAST_ROOT = 2
 GREATEST_ROOT = 99
 FAR_STEP = 4294967296
+GREAT_BITS = 8192
+HEAD_BITS = 64
 
 
 def is_whole(thing):
@@ -36,11 +38,48 @@ def square_root_floor(number):
 
 
 def common_divisor(one, other):
+    if other.bit_length() > GREAT_BITS:
+        pair = (max(abs(one), abs(other)), min(abs(one), abs(other)))
+        while pair[1].bit_length() > GREAT_BITS:
+            pair = far_rests(pair[0], pair[1])
+        one = pair[0]
+        other = pair[1]
     while other != 0:
         rest = one % other
         one = other
         other = rest
     return abs(one)
+
+
+def far_rests(one, other):
+    # Many divisions of great numbers hang on their first bits alone: those are
+    # done on the heads, and the great numbers then go all the steps at once.
+    beyond = one.bit_length() - HEAD_BITS
+    steps = sure_steps(one >> beyond, other >> beyond)
+    if steps[0][1] == 0:
+        return (other, one % other)
+    return (
+        steps[0][0] * one + steps[0][1] * other,
+        steps[1][0] * one + steps[1][1] * other,
+    )
+
+
+def sure_steps(one, other):
+    # How often each of two numbers goes into the last two rests, for as long as
+    # the bits behind the heads, whatever they are, leave each quotient as it is.
+    ahead = (1, 0)
+    last = (0, 1)
+    while other + last[0] != 0 and other + last[1] != 0:
+        many = (one + ahead[0]) // (other + last[0])
+        if many != (one + ahead[1]) // (other + last[1]):
+            break
+        rest = (ahead[0] - many * last[0], ahead[1] - many * last[1])
+        ahead = last
+        last = rest
+        left = one - many * other
+        one = other
+        other = left
+    return (ahead, last)
 
 
 def with_sign_of(divisor, bottom):

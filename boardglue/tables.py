@@ -67,6 +67,15 @@ def less(one, other):
     )
 
 
+def slant(one):
+    # What the first place times the last one is above the two others times one
+    # another, timed by all four bottoms: only its sign is asked, and lowest
+    # terms would be long to find for great numbers.
+    straight = one[0][0][0] * one[1][1][0] * one[0][1][1] * one[1][0][1]
+    across = one[0][1][0] * one[1][0][0] * one[0][0][1] * one[1][1][1]
+    return straight - across
+
+
 def area(d, one):
     without_root = plus(one[0][0], times((d, 1), one[1][1]))
     with_root = plus(one[0][1], one[1][0])

@@ -7,6 +7,8 @@ from math import gcd, isqrt
 
 LONG = 10 ** 399 + 7
 ROOTS = [d for d in range(2, 100) if isqrt(d) ** 2 != d]
+NO_TURNS = ("across", "along", "beside", "atop", "stack", "spread")
+DEEDS = NO_TURNS + ("turn",)
 
 
 class Prickly:
@@ -153,6 +155,29 @@ class Model:
 
     def heap(self):
         return [one for _, one in self.named()]
+
+
+def end_by_model(heap, plan):
+    model = Model(heap)
+    for deed in plan:
+        model.do(deed)
+    return model.heap()
+
+
+def places(heap):
+    """The table of a heap, row by row, in Python's own fractions."""
+    found = [Fraction(0)] * 4
+    for width, height in heap:
+        found = [sum_so_far + i * j for sum_so_far, (i, j) in zip(found, product(pair(width), pair(height)))]
+    return found
+
+
+def turned_about(heap):
+    return [(height, width) for width, height in heap]
+
+
+def times_fraction(one, share):
+    return as_length(*[part * share for part in pair(one)])
 
 
 def some_cut(d, side, chance):

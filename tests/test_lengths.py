@@ -1,5 +1,6 @@
 """Lengths, their order, their parts, and fractions."""
 
+import random
 import unittest
 from fractions import Fraction
 from itertools import product
@@ -7,7 +8,7 @@ from math import gcd
 
 from boardglue.errors import NoLength
 from boardglue.lengths import (
-    added, by_parts, floor_of, fraction, is_root, is_whole, length, parted, parts, taken, timed, under,
+    added, by_parts, common_divisor, floor_of, fraction, is_root, is_whole, length, parted, parts, taken, timed, under,
 )
 from samples import LONG, ROOTS, as_length, near_misses, no_wholes, pair, sign, small_lengths, some_lengths
 
@@ -30,6 +31,39 @@ class Checks(unittest.TestCase):
         self.assertEqual([type(number) for number in one], [int, int])
         self.assertGreaterEqual(one[1], 1)
         self.assertEqual(gcd(*one), 1)
+
+
+class CommonDivisor(unittest.TestCase):
+    def assert_told(self, one, other):
+        expected = gcd(one, other)
+        for pair_told in ((one, other), (other, one), (-one, other), (one, -other)):
+            self.assertEqual(common_divisor(*pair_told), expected)
+
+    def test_small_numbers(self):
+        for one, other in product(range(-30, 31), range(-30, 31)):
+            self.assertEqual(common_divisor(one, other), gcd(one, other))
+
+    def test_great_numbers(self):
+        chance = random.Random(5)
+        sizes = (1, 60, 64, 65, 1000, 8190, 8191, 8192, 8193, 8260, 9000, 20000)
+        for first, second, shared in product(sizes, sizes, (1, 64, 9000)):
+            one, other, both = [chance.getrandbits(size) for size in (first, second, shared)]
+            self.assert_told(one * both, other * both)
+
+    def test_great_numbers_of_odd_forms(self):
+        for size in (8192, 8193, 9001):
+            power = 1 << size
+            for one in (power, power - 1, power + 1, 3 * power, power * power - 1):
+                for other in (one - 1, one + 1, 2 * one, 2 * one + 1, one * one, power, power - 1, 10 ** 3000, 1, 0):
+                    self.assert_told(one, other)
+
+    def test_as_many_steps_as_can_be(self):
+        one, other = 1, 1
+        for step in range(30000):
+            one, other = other, one + other
+            if step % 2503 == 0:
+                self.assert_told(one, other)
+                self.assert_told(6 * one, 10 * other)
 
 
 class WholesAndRoots(unittest.TestCase):

@@ -10,9 +10,8 @@ from boardglue.likes import like
 from boardglue.normal import normal_heap
 from boardglue.plans import walked
 from boardglue.tables import table
-from samples import LONG, ROOTS, Model, near_misses, sign, some_heaps, some_plan
+from samples import LONG, NO_TURNS, ROOTS, Model, near_misses, sign, some_heaps, some_plan
 
-NO_TURNS = ("across", "along", "beside", "atop", "stack", "spread")
 ONE = (1, 0, 1)
 TWO = (2, 0, 1)
 ROOT = (0, 1, 1)

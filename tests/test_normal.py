@@ -10,9 +10,8 @@ from boardglue.boards import is_heap
 from boardglue.normal import normal_heap, normal_plan
 from boardglue.plans import walked
 from boardglue.tables import table
-from samples import LONG, ROOTS, Model, as_length, near_misses, pair, sign, some_heaps, some_plan
+from samples import LONG, NO_TURNS, ROOTS, Model, as_length, near_misses, pair, sign, some_heaps, some_plan
 
-NO_TURNS = ("across", "along", "beside", "atop", "stack", "spread")
 ONE = (1, 0, 1)
 TWO = (2, 0, 1)
 ROOT = (0, 1, 1)

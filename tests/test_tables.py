@@ -12,10 +12,9 @@ from boardglue.plans import walked
 from boardglue.tables import (
     area, by, is_less, less, measured, minus, over, plus, table, times, together, worth,
 )
-from samples import LONG, ROOTS, as_length, pair, small_lengths, some_heaps, some_lengths, some_plan
+from samples import LONG, NO_TURNS, ROOTS, as_length, pair, small_lengths, some_heaps, some_lengths, some_plan
 
 SOME_ROOTS = (2, 3, 8, 61, 99)
-NO_TURNS = ("across", "along", "beside", "atop", "stack", "spread")
 
 
 def small_fractions():
